@@ -31,6 +31,25 @@ func Of(lit int) (Clause, bool) {
 	return 0, false
 }
 
+// FromNumbers gives the clause whose literals the numbers are; false, if one of
+// them is none.
+func FromNumbers(numbers []int) (Clause, bool) {
+	return union(numbers, Of)
+}
+
+// union puts together the clauses of all parts; false, if one part has none.
+func union[T any](parts []T, of func(T) (Clause, bool)) (Clause, bool) {
+	var all Clause
+	for _, part := range parts {
+		one, ok := of(part)
+		if !ok {
+			return 0, false
+		}
+		all |= one
+	}
+	return all, true
+}
+
 // Opposites gives the opposites of all literals.
 func (c Clause) Opposites() Clause {
 	return (c&above)<<1 | (c>>1)&above
@@ -41,9 +60,14 @@ func (c Clause) AlwaysTrue() bool {
 	return c&c.Opposites() != 0
 }
 
+// Size tells how many literals there are.
+func (c Clause) Size() int {
+	return bits.OnesCount32(uint32(c))
+}
+
 // Single tells whether there is just one literal.
 func (c Clause) Single() bool {
-	return bits.OnesCount32(uint32(c)) == 1
+	return c.Size() == 1
 }
 
 // first gives the literal that the plain form begins with.
@@ -56,11 +80,20 @@ func (c Clause) first() int {
 	return variable
 }
 
+// Literals gives the literals, in the order of the plain form.
+func (c Clause) Literals() []int {
+	var lits []int
+	for rest := c; rest != 0; rest &= rest - 1 {
+		lits = append(lits, rest.first())
+	}
+	return lits
+}
+
 // Line tells the clause in its plain form.
 func (c Clause) Line() string {
 	var words []string
-	for rest := c; rest != 0; rest &= rest - 1 {
-		words = append(words, strconv.Itoa(rest.first()))
+	for _, lit := range c.Literals() {
+		words = append(words, strconv.Itoa(lit))
 	}
 	return strings.Join(words, " ") + "\n"
 }

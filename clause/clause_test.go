@@ -66,6 +66,28 @@ func TestSingle(t *testing.T) {
 	}
 }
 
+func TestSizeAndLiterals(t *testing.T) {
+	for _, c := range [][2][]int{{{}, {}}, {{-7}, {-7}}, {{-12, 2, -1}, {-1, 2, -12}}, {{-11, 11, 10, 11}, {10, 11, -11}}} {
+		all := of(t, c[0]...)
+		if got := all.Literals(); !slices.Equal(got, c[1]) || all.Size() != len(c[1]) {
+			t.Errorf("the literals of %d are %d, of size %d", c[0], got, all.Size())
+		}
+	}
+}
+
+func TestFromNumbers(t *testing.T) {
+	for _, numbers := range [][]int{nil, {1}, {2, -1, 2}, {12, -12}} {
+		if got, ok := FromNumbers(numbers); !ok || got != of(t, numbers...) {
+			t.Errorf("FromNumbers(%d) = %d, %t", numbers, got, ok)
+		}
+	}
+	for _, numbers := range [][]int{{0}, {1, 13}, {-13, 2}, {1, -1, math.MinInt}, {math.MaxInt}} {
+		if got, ok := FromNumbers(numbers); ok || got != 0 {
+			t.Errorf("FromNumbers(%d) = %d, %t", numbers, got, ok)
+		}
+	}
+}
+
 func TestLine(t *testing.T) {
 	for line, lits := range map[string][]int{"\n": nil, "1\n": {1}, "-1 2 -12\n": {-12, 2, -1}, "10 11 -11\n": {-11, 11, 10}} {
 		if got := of(t, lits...).Line(); got != line {

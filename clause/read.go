@@ -40,15 +40,7 @@ func Words(line string) ([]string, bool) {
 // FromWords gives the clause whose literals the words are; false, if one of
 // them is none.
 func FromWords(words []string) (Clause, bool) {
-	var all Clause
-	for _, word := range words {
-		one, ok := fromWord(word)
-		if !ok {
-			return 0, false
-		}
-		all |= one
-	}
-	return all, true
+	return union(words, fromWord)
 }
 
 func fromWord(word string) (Clause, bool) {

@@ -6,7 +6,6 @@ import (
 	"testing"
 
 	"knots/api"
-	"knots/knots"
 )
 
 // P2: many at a time, in any order, answer as one alone does.
@@ -48,15 +47,4 @@ func TestGreatTexts(t *testing.T) {
 	clauses := chain + filling.String() + "1\n"
 	wantCheck(t, checkCase{clauses, strings.Repeat("12\n", api.MaxText/3), api.OK, 0})
 	wantCheck(t, checkCase{clauses, strings.Repeat("12\nd 12\n", api.MaxText/8), api.OK, 0})
-}
-
-// P1: the calls that answer nothing yet do not panic either.
-func TestTheOtherCallsDoNotPanic(t *testing.T) {
-	s := knots.New()
-	s.Add()
-	s.Add(1, -2, 99)
-	s.Clauses()
-	s.Solve([]int{1, 0}, -1)
-	s.Proof()
-	s.Reset()
 }
