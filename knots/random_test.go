@@ -2,6 +2,7 @@ package knots_test
 
 import (
 	"math/rand"
+	"slices"
 	"strconv"
 	"strings"
 	"testing"
@@ -117,6 +118,78 @@ func TestCheckAcceptsOnlyWhatIsEntailed(t *testing.T) {
 		}
 	}
 	if accepted < 100 {
+		t.Errorf("only %d proofs are accepted", accepted)
+	}
+}
+
+// truths tells in a bit for each of the four values of two variables whether a
+// line is true.
+func truths(line string) int {
+	all := 0
+	for values := range 4 {
+		if isTrue(line, values) {
+			all |= 1 << values
+		}
+	}
+	return all
+}
+
+// smallSteps gives all steps with clauses of two variables.
+func smallSteps() []string {
+	var all []string
+	for set := range 16 {
+		var numbers []int
+		for i, n := range []int{1, -1, 2, -2} {
+			if set>>i&1 == 1 {
+				numbers = append(numbers, n)
+			}
+		}
+		line := lineOf(numbers)
+		all = append(all, line, strings.Replace("d "+line, " \n", "\n", 1))
+	}
+	return all
+}
+
+// eachList goes through all lists of at most so many of the lines, in their order.
+func eachList(lines []string, most int, see func(list []string)) {
+	var grow func(list []string, from int)
+	grow = func(list []string, from int) {
+		see(list)
+		for i := from; i < len(lines) && len(list) < most; i++ {
+			grow(append(slices.Clone(list), lines[i]), i)
+		}
+	}
+	grow(nil, 0)
+}
+
+// All lists of up to three clauses of two variables, with all proofs of two steps.
+func TestCheckAcceptsOnlyWhatSmallListsEntail(t *testing.T) {
+	lines := []string{"1 -1\n"}
+	for _, lits := range smallClauses {
+		lines = append(lines, lineOf(lits))
+	}
+	all := smallSteps()
+	accepted := 0
+	eachList(lines, 3, func(list []string) {
+		models := 15
+		for _, line := range list {
+			models &= truths(line)
+		}
+		clauses := strings.Join(list, "")
+		for i := range len(all) * len(all) {
+			first, second := all[i/len(all)], all[i%len(all)]
+			if errno, _ := knots.Check(clauses, first+second); errno != api.OK {
+				continue
+			}
+			accepted++
+			for _, step := range []string{first, second} {
+				if !strings.HasPrefix(step, "d") && models&^truths(step) != 0 {
+					t.Fatalf("P8: of %q the proof %q is accepted", clauses, first+second)
+				}
+			}
+		}
+	})
+	if accepted < 10000 {
 		t.Errorf("only %d proofs are accepted", accepted)
 	}
 }

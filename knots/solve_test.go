@@ -55,13 +55,16 @@ func valuesOf(model []int) (int, bool) {
 	return values, len(model) == api.MaxVar
 }
 
-// wantSolve looks whether an answer is one that P6 allows.
+// wantSolve looks whether an answer is one that P6 allows, and whether the proof
+// grew as P7 says.
 func wantSolve(t *testing.T, s *knots.Solver, w *worlds, assumed []int, budget int) api.Result {
 	t.Helper()
+	before := s.Proof()
 	result, errno := s.Solve(assumed, budget)
 	if errno != api.OK || !allowed(result, w, assumed, budget) {
 		t.Fatalf("P6: of %q with %d and budget %d: %+v, %d", s.Clauses(), assumed, budget, result, errno)
 	}
+	wantGrown(t, s, before, result)
 	return result
 }
 
@@ -145,6 +148,18 @@ func TestSolveRefuses(t *testing.T) {
 // smallClauses has all clauses of two variables that are not always true.
 var smallClauses = [][]int{{}, {1}, {-1}, {2}, {-2}, {1, 2}, {1, -2}, {-1, 2}, {-1, -2}}
 
+func eachSmallSet(see func(clauses [][]int)) {
+	for set := range 1 << len(smallClauses) {
+		var clauses [][]int
+		for i, lits := range smallClauses {
+			if set>>i&1 == 1 {
+				clauses = append(clauses, lits)
+			}
+		}
+		see(clauses)
+	}
+}
+
 // Each set of the clauses of two variables, with each list of up to three
 // assumed literals.
 func TestSolveOfAllSmallInputs(t *testing.T) {
@@ -154,19 +169,13 @@ func TestSolveOfAllSmallInputs(t *testing.T) {
 			lists = append(lists, append(slices.Clone(lists[from]), lit))
 		}
 	}
-	for set := range 1 << len(smallClauses) {
-		var clauses [][]int
-		for i, lits := range smallClauses {
-			if set>>i&1 == 1 {
-				clauses = append(clauses, lits)
-			}
-		}
+	eachSmallSet(func(clauses [][]int) {
 		s, w := solverOf(t, clauses...), worldsOf(clauses)
 		for _, assumed := range lists {
 			wantSolve(t, s, w, assumed, 0)
 			wantSolve(t, s, w, assumed, 1)
 		}
-	}
+	})
 }
 
 // randomClause makes a clause, most often of three to five variables, so that

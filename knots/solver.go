@@ -8,8 +8,9 @@ import (
 
 // Solver is some clauses, and the proof that was written so far.
 type Solver struct {
-	kept []clause.Clause
-	size int // how many literals all of them have
+	kept  []clause.Clause
+	size  int    // how many literals all of them have
+	proof []byte // whole lines
 }
 
 // New makes a solver without clauses (P5).
@@ -53,11 +54,15 @@ func (s *Solver) Solve(assume []int, budget int) (api.Result, api.Errno) {
 	for _, c := range s.kept {
 		look.Add(c.Literals())
 	}
-	return look.Run(assume, budget), api.OK
+	result := look.Run(assume, budget)
+	s.writeDown(look.Steps(), result)
+	return result, api.OK
 }
 
 // Proof tells the proof that was written so far (P7).
-func (s *Solver) Proof() string { return "" }
+func (s *Solver) Proof() string {
+	return string(s.proof)
+}
 
 // Reset takes all clauses away, and the proof (P5).
 func (s *Solver) Reset() {

@@ -3,9 +3,12 @@ package search
 // learn takes in what a conflict above level 0 teaches, and goes back so far
 // that all but one literal of it are still false: that one is true then.
 func (s *Search) learn(conflict place) {
-	lits := s.lesson(conflict)
+	lits := s.shorten(s.lesson(conflict))
 	s.goBack(s.putHighestSecond(lits))
-	s.force(s.keep(lits))
+	s.steps = append(s.steps, Step{Lits: lits})
+	at := s.keep(lits)
+	s.clauses.use(at)
+	s.force(at)
 	s.queue.fade()
 }
 
@@ -37,9 +40,11 @@ func (s *Search) lesson(conflict place) []int {
 	}
 }
 
-// meet marks the variables of a clause and gives the literals of those that were
-// not met before. What is on level 0 teaches nothing, so it is left out.
+// meet marks the variables of a clause that has a part in a conflict, and gives
+// the literals of those that were not met before. What is on level 0 teaches
+// nothing, so it is left out.
 func (s *Search) meet(at place, met []bool) []int {
+	s.clauses.use(at)
 	var fresh []int
 	for _, lit := range s.clauses.literals(at) {
 		variable := variableOf(lit)
@@ -61,6 +66,45 @@ func (s *Search) lastMet(end int, met []bool) int {
 		last--
 	}
 	return last
+}
+
+// shorten leaves out of a lesson what follows from the rest: the literals, but for
+// the first, that are false because others of them are. It walks along the trail,
+// where all from which a literal came stands ahead of it.
+func (s *Search) shorten(lits []int) []int {
+	known := make([]bool, len(s.trail.facts))
+	for _, lit := range lits {
+		known[variableOf(lit)] = true
+	}
+	comes := make([]bool, len(s.trail.facts))
+	for _, lit := range s.trail.order {
+		if s.comesOf(lit, known) {
+			known[variableOf(lit)] = true
+			comes[variableOf(lit)] = true
+		}
+	}
+	short := lits[:1]
+	for _, lit := range lits[1:] {
+		if !comes[variableOf(lit)] {
+			short = append(short, lit)
+		}
+	}
+	return short
+}
+
+// comesOf tells whether a literal was not decided, and all other variables of
+// its reason are known.
+func (s *Search) comesOf(lit int, known []bool) bool {
+	reason := s.trail.fact(lit).reason
+	if reason == nowhere {
+		return false
+	}
+	for _, other := range s.clauses.literals(reason) {
+		if other != lit && !known[variableOf(other)] {
+			return false
+		}
+	}
+	return true
 }
 
 // putHighestSecond puts a literal of the highest level behind the first one, and

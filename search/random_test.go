@@ -16,6 +16,17 @@ func randomLiteral(chance *rand.Rand, variables int) int {
 	return lit
 }
 
+func randomClause(chance *rand.Rand, variables, size int) []int {
+	var lits []int
+	for len(lits) < size {
+		lit := randomLiteral(chance, variables)
+		if !slices.Contains(lits, lit) && !slices.Contains(lits, -lit) {
+			lits = append(lits, lit)
+		}
+	}
+	return lits
+}
+
 // randomClauses makes clauses most of which have three literals, since short ones
 // leave little to search for.
 func randomClauses(chance *rand.Rand, variables, count int) [][]int {
@@ -25,12 +36,7 @@ func randomClauses(chance *rand.Rand, variables, count int) [][]int {
 		if chance.Intn(10) == 0 {
 			size = 1 + chance.Intn(min(variables, 5))
 		}
-		for len(all[i]) < size {
-			lit := randomLiteral(chance, variables)
-			if !slices.Contains(all[i], lit) && !slices.Contains(all[i], -lit) {
-				all[i] = append(all[i], lit)
-			}
-		}
+		all[i] = randomClause(chance, variables, size)
 	}
 	return all
 }
@@ -38,6 +44,17 @@ func randomClauses(chance *rand.Rand, variables, count int) [][]int {
 func randomSearch(chance *rand.Rand) (*Search, [][]int) {
 	variables := 3 + chance.Intn(8)
 	clauses := randomClauses(chance, variables, variables+chance.Intn(5*variables))
+	return searchOf(variables, clauses...), clauses
+}
+
+// hardSearch makes a search that runs into many conflicts, of more variables
+// than one can go through all values of.
+func hardSearch(chance *rand.Rand) (*Search, [][]int) {
+	variables := 20 + chance.Intn(20)
+	clauses := make([][]int, 4*variables+chance.Intn(variables))
+	for i := range clauses {
+		clauses[i] = randomClause(chance, variables, 3)
+	}
 	return searchOf(variables, clauses...), clauses
 }
 

@@ -14,9 +14,18 @@ type Search struct {
 	watches   watches
 	trail     trail
 	queue     *queue
+	rounds    rounds
+	given     place // where the learnt clauses begin, behind all that were added
 	broken    place // a clause that was false as soon as it came, or nowhere
 	assumed   []int // each once
 	conflicts int
+	steps     []Step
+}
+
+// Step is one change of the clauses: one is learnt, or one that was goes.
+type Step struct {
+	Lits []int
+	Goes bool
 }
 
 // New makes a search without clauses, of the variables from 1 on.
@@ -25,6 +34,7 @@ func New(variables int) *Search {
 		watches: newWatches(variables),
 		trail:   newTrail(variables),
 		queue:   newQueue(variables),
+		rounds:  newRounds(),
 		broken:  nowhere,
 	}
 }
@@ -33,6 +43,7 @@ func New(variables int) *Search {
 // with its opposite.
 func (s *Search) Add(lits []int) {
 	at := s.keep(lits)
+	s.given = s.clauses.end()
 	if len(lits) < 2 && s.broken == nowhere {
 		s.broken = s.force(at)
 	}
@@ -52,6 +63,9 @@ func (s *Search) Run(assumed []int, budget int) api.Result {
 			if s.conflicts == budget {
 				return api.Result{Kind: api.Unknown, Conflicts: s.conflicts}
 			}
+			if s.rounds.over() {
+				s.beginAnew()
+			}
 			continue
 		}
 		lit := s.next()
@@ -63,6 +77,12 @@ func (s *Search) Run(assumed []int, budget int) api.Result {
 		}
 		s.trail.decide(lit)
 	}
+}
+
+// Steps gives all changes of the clauses that Run made, in their order. Each that
+// is learnt follows from those that are there then.
+func (s *Search) Steps() []Step {
+	return s.steps
 }
 
 func eachOnce(lits []int) []int {

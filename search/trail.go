@@ -57,6 +57,16 @@ func (t *trail) decide(lit int) {
 	t.take(lit, nowhere)
 }
 
+// isForced tells whether a literal is true for what a clause says.
+func (t *trail) isForced(lit int, reason place) bool {
+	return t.isTrue(lit) && t.fact(lit).reason == reason
+}
+
+// setReason tells where the clause lies now for which a literal is true.
+func (t *trail) setReason(lit int, reason place) {
+	t.facts[variableOf(lit)].reason = reason
+}
+
 // undo takes back all above a level and gives it, as long as nothing is taken anew.
 func (t *trail) undo(level int) []int {
 	if level >= t.level() {

@@ -24,11 +24,24 @@ func (w *watches) add(lit int, at place) {
 // keep lays a clause into the store, and has it watch its two first literals.
 func (s *Search) keep(lits []int) place {
 	at := s.clauses.add(lits)
+	s.watch(at)
+	return at
+}
+
+func (s *Search) watch(at place) {
+	lits := s.clauses.literals(at)
 	if len(lits) >= 2 {
 		s.watches.add(lits[0], at)
 		s.watches.add(lits[1], at)
 	}
-	return at
+}
+
+// watchAnew fills the lists of the watches for what lies in the store now.
+func (s *Search) watchAnew() {
+	s.watches = newWatches(s.watches.variables)
+	for at := place(0); at < s.clauses.end(); at = s.clauses.behind(at) {
+		s.watch(at)
+	}
 }
 
 // propagate takes to be true what comes of all that is true. It gives the place

@@ -8,7 +8,7 @@ import (
 // places gives where the clauses of a store lie.
 func places(s store) []place {
 	var all []place
-	for at := 0; at < len(s); at += 1 + s[at] {
+	for at := 0; at < len(s); at += headSize + s[at] {
 		all = append(all, place(at))
 	}
 	return all
@@ -19,15 +19,20 @@ func TestStore(t *testing.T) {
 	lits := []int{3, -1, 2}
 	first, empty, last := s.add(lits), s.add(nil), s.add([]int{-4})
 	lits[0] = 9
-	if !slices.Equal(s, store{3, 3, -1, 2, 0, 1, -4}) {
+	if !slices.Equal(s, store{3, 0, 3, -1, 2, 0, 0, 1, 0, -4}) {
 		t.Errorf("the store is %d", s)
 	}
 	if !slices.Equal(s.literals(first), []int{3, -1, 2}) || len(s.literals(empty)) != 0 || !slices.Equal(s.literals(last), []int{-4}) {
 		t.Errorf("the clauses are %d, %d, %d", s.literals(first), s.literals(empty), s.literals(last))
 	}
+	if s.behind(first) != empty || s.behind(empty) != last || s.behind(last) != s.end() || s.end() != 10 {
+		t.Errorf("behind each other lie %d, %d, %d, %d", first, s.behind(first), s.behind(empty), s.behind(last))
+	}
 	s.literals(first)[0] = 7
 	_ = append(s.literals(first), 8)
-	if !slices.Equal(s, store{3, 7, -1, 2, 0, 1, -4}) {
+	s.use(last)
+	s.use(last)
+	if !slices.Equal(s, store{3, 0, 7, -1, 2, 0, 0, 1, 1, -4}) || s.isUsed(first) || !s.isUsed(last) {
 		t.Errorf("the store is %d", s)
 	}
 }
@@ -197,6 +202,9 @@ func drive(s *Search, still func(), struck func(conflict place)) bool {
 			}
 			struck(conflict)
 			s.learn(conflict)
+			if s.rounds.over() {
+				s.beginAnew()
+			}
 			continue
 		}
 		still()
